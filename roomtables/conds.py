@@ -1,7 +1,7 @@
 """Conditions: whether they hold by a given and own numbers, and whether a thing is one."""
 
 from roomtables.parts import parts_in, word_of
-from roomtables.sums import has_bit, is_sum, worth
+from roomtables.sums import has_bit, is_sum, worths
 
 LENGTHS = {"below": 3, "same": 3, "has": 3, "not": 2, "and": 3, "or": 3}
 
@@ -10,7 +10,7 @@ OF_SUMS = ("below", "same", "has")
 
 
 def compared(word, one, other):
-    """Whether a condition of two sums holds by their numbers."""
+    """Whether a condition of two sums holds by their numbers, or its fault."""
     if word == "below":
         return one < other
     if word == "same":
@@ -30,15 +30,17 @@ def joined(word, truths):
 def holds(cond, given, own):
     """Whether a condition holds, or its fault."""
     word = cond[0]
-    told = []
-    for part in parts_in(cond):
-        one = worth(part, given, own) if word in OF_SUMS else holds(part, given, own)
-        if isinstance(one, str):
-            return one
-        told.append(one)
     if word in OF_SUMS:
-        return compared(word, told[0], told[1])
-    return joined(word, told)
+        numbers = worths(parts_in(cond), given, own)
+        return numbers if isinstance(numbers, str) else compared(word, numbers[0], numbers[1])
+    truths = []
+    # All parts are reckoned, whatever the first ones come to: a fault behind them counts.
+    for part in parts_in(cond):
+        truth = holds(part, given, own)
+        if isinstance(truth, str):
+            return truth
+        truths.append(truth)
+    return joined(word, truths)
 
 
 def is_cond(thing, needs, many):

@@ -140,16 +140,24 @@ OF_NUMBERS = {
 
 def worth(one, given, own):
     """The number that a sum comes to, or its fault."""
-    numbers = []
-    for part in parts_in(one):
-        number = worth(part, given, own)
-        if isinstance(number, str):
-            return number
-        numbers.append(number)
+    numbers = worths(parts_in(one), given, own)
+    if isinstance(numbers, str):
+        return numbers
     told = reckoned(one, numbers, given, own)
     if isinstance(told, int) and abs(told) >= BOUND:
         return "great"
     return told
+
+
+def worths(sums, given, own):
+    """The numbers that sums come to, a list, or the first fault among them."""
+    numbers = []
+    for one in sums:
+        number = worth(one, given, own)
+        if isinstance(number, str):
+            return number
+        numbers.append(number)
+    return numbers
 
 
 def reckoned(one, numbers, given, own):

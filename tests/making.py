@@ -1,0 +1,116 @@
+"""Programs, givens and cells made by a seeded chance, for the tests to compare by."""
+
+from roomtables.errors import NoProgram
+from roomtables.givens import given_of
+from roomtables.programs import program_of
+
+NEEDS = (("count", "number"), ("line", "row"), ("word", "text"), ("knots", "tree"))
+
+
+def small(chance):
+    return chance.choice([0, 0, 1, 1, 1, 2, 2, 3, 4, -1, 12, 13, 16, 17, 10 ** 29])
+
+
+def a_sum(chance, own, deep):
+    if deep <= 1 or chance.random() < 0.35:
+        return chance.choice([
+            ("num", small(chance)), ("own", chance.randrange(own)), ("own", chance.randrange(own)), ("need", "count"),
+            ("size", chance.choice(["line", "word", "knots"])),
+        ])
+    part = lambda: a_sum(chance, own, deep - 1)
+    word = chance.choice("at kids kid full with without many plus less less less times half rest lesser greater".split())
+    if word == "at":
+        return (word, chance.choice(["line", "word"]), part())
+    if word == "kids":
+        return (word, "knots", part())
+    if word == "kid":
+        return (word, "knots", part(), part())
+    return (word, part()) if word in ("full", "many", "half") else (word, part(), part())
+
+
+def a_cond(chance, own, deep):
+    if deep <= 2 or chance.random() < 0.5:
+        return (chance.choice(["below", "below", "same", "has"]), a_sum(chance, own, deep - 1), a_sum(chance, own, deep - 1))
+    if chance.random() < 0.3:
+        return ("not", a_cond(chance, own, deep - 1))
+    return (chance.choice(["and", "or"]), a_cond(chance, own, deep - 1), a_cond(chance, own, deep - 1))
+
+
+def an_arg(chance, own):
+    """Mostly what leads to a cell that is there."""
+    k = ("own", chance.randrange(own))
+    return chance.choice([
+        k, ("less", k, ("num", 1)), ("half", k), ("num", chance.randrange(3)), ("greater", ("num", 0), ("less", k, ("num", 2))),
+        ("without", k, ("num", chance.randrange(3))), ("rest", k, ("num", 3)), a_sum(chance, own, 2),
+    ])
+
+
+def a_body(chance, counts, own, deep, turns):
+    if deep <= 2 or chance.random() < 0.15:
+        if chance.random() < 0.6:
+            g = chance.randrange(len(counts))
+            return ("call", g, tuple(an_arg(chance, own) for _ in range(counts[g])))
+        return ("none",) if chance.random() < 0.15 else ("gain", a_sum(chance, own, 2))
+    inner = lambda more=0: a_body(chance, counts, own + more, deep - 1, turns + more)
+    word = chance.choice(["both", "both", "choose", "if", "each", "all"])
+    if word == "both":
+        return (word, inner(), inner())
+    if word == "choose":
+        return (word, tuple(inner() for _ in range(chance.randrange(1, 5))))
+    if word == "if":
+        return (word, a_cond(chance, own, 3), inner(), inner())
+    if turns > 1:
+        return inner()
+    low = chance.choice([("num", 0), ("num", 1), a_sum(chance, own, 1)])
+    high = chance.choice([("own", chance.randrange(own)), ("num", chance.randrange(4)), a_sum(chance, own, 2)])
+    return (word, low, high, inner(1))
+
+
+def a_most(chance):
+    return chance.choice([
+        ("num", chance.randrange(5)), ("size", "line"), ("need", "count"), ("full", ("size", "word")),
+        ("less", ("size", "knots"), ("num", 1)), ("plus", ("need", "count"), ("num", 2)),
+    ])
+
+
+def a_program(chance):
+    while True:
+        counts = [chance.choice([1, 1, 2, 3]) for _ in range(chance.randrange(1, 5))]
+        functions = []
+        for name, many in zip(("fa", "fb", "fc", "fd"), counts):
+            mosts = tuple(a_most(chance) for _ in range(many))
+            functions.append((name, mosts, a_body(chance, counts, many, chance.randrange(2, 7), 0)))
+        try:
+            return program_of(NEEDS, tuple(functions))
+        except NoProgram:
+            continue
+
+
+def a_given(chance, program):
+    return given_of(program, {
+        "count": chance.choice([0, 1, 2, 3, 4, -1, -2, 10 ** 29]),
+        "line": [chance.choice([0, 1, 2, -1, 5]) for _ in range(chance.randrange(5))],
+        "word": "".join(chance.choice("abcz") for _ in range(chance.randrange(4))),
+        "knots": tuple(chance.randrange(at + 1) for at in range(chance.randrange(6))),
+    })
+
+
+def some_cells(chance, mosts, many):
+    """Some cells by these mosts, perhaps none."""
+    cells = []
+    for _ in range(many):
+        f = chance.randrange(len(mosts))
+        if min(mosts[f]) >= 0:
+            cells.append((f, tuple(chance.randrange(min(most, 6) + 1) for most in mosts[f])))
+    return cells
+
+
+def a_worth(chance, word):
+    if chance.random() < 0.08:
+        return chance.choice(["place", "nought", "great", "wide", "beyond"])
+    number = chance.choice([0, 1, 2, -3, 7, 7, 10 ** 200, 10 ** 399, -10 ** 200])
+    if word in ("ways", "sum"):
+        return number
+    if chance.random() < 0.15:
+        return None
+    return number if word in ("least", "greatest") else (number, chance.choice([1, 2, 3, 10 ** 200]))
