@@ -1,5 +1,6 @@
 """Cells: how far their numbers go, and whether a thing is one."""
 
+from roomtables.errors import NoCell
 from roomtables.parts import is_tuple, is_whole
 from roomtables.sums import worth
 
@@ -15,6 +16,12 @@ def mosts_of(program, given):
 def is_cell(program, given, thing):
     """Whether a thing is a cell."""
     return is_within(mosts_of(program, given), thing)
+
+
+def check_cell(program, given, ask):
+    """Refuses an ask that is no cell."""
+    if not is_cell(program, given, ask):
+        raise NoCell("the ask is no cell")
 
 
 def is_within(mosts, thing):

@@ -11,6 +11,9 @@ MOST_TURNS = 16
 # Where the bodies within a body begin; those of a choose stand in a tuple of their own.
 BODIES_FROM = {"gain": 2, "none": 1, "both": 1, "each": 3, "all": 3, "if": 2}
 
+# The words whose first part is put together with nothing ahead of it.
+FROM_THE_FIRST = ("both", "choose")
+
 
 class Step:
     """What a body comes to in a reading.
@@ -27,6 +30,23 @@ class Step:
         self.fault = fault
 
 
+class Readings:
+    """The readings of a program's cells by a given, each made once."""
+
+    def __init__(self, program, given):
+        self.bodies = [numbered(function[2], 0) for function in program[1]]
+        self.given = given
+        self.mosts = mosts_of(program, given)
+        self.made = {}
+
+    def of(self, cell):
+        """The reading of a cell, as the step that its function's body comes to."""
+        if cell not in self.made:
+            function, args = cell
+            self.made[cell] = read(self.bodies[function], list(args), self.given, self.mosts)
+        return self.made[cell]
+
+
 def calls(program, given, cell):
     """The calls that a cell's reading comes to: the number and the cell of each."""
     return calls_in(reading(program, given, cell))
@@ -34,10 +54,7 @@ def calls(program, given, cell):
 
 def wants(program, given, cell):
     """The cells that a cell's reading calls, each once, in the order of first coming."""
-    found = {}
-    for number, called in calls(program, given, cell):
-        found[called] = True
-    return list(found)
+    return wants_in(reading(program, given, cell))
 
 
 def fault_of(program, given, cell):
@@ -47,14 +64,12 @@ def fault_of(program, given, cell):
 
 def cell_worth(program, given, cell, word, known):
     """A cell's worth by a word and the worths of its wants."""
-    return step_worth(reading(program, given, cell), word, known)
+    return step_worth(reading(program, given, cell), word, lambda called: known[called])
 
 
 def reading(program, given, cell):
-    """The reading of a cell, as the step that its function's body comes to."""
-    function, args = cell
-    body = program[1][function][2]
-    return read(numbered(body, 0), list(args), given, mosts_of(program, given))
+    """The reading of one cell."""
+    return Readings(program, given).of(cell)
 
 
 def calls_many(part):
@@ -151,36 +166,37 @@ def calls_in(step):
     return found
 
 
-def step_worth(step, word, known):
-    """The worth of a step, or the first fault met in it."""
+def wants_in(step):
+    """The cells that are called within a step, each once, in the order of first coming."""
+    found = {}
+    for number, called in calls_in(step):
+        found[called] = True
+    return list(found)
+
+
+def step_worth(step, word, worth_of):
+    """The worth of a step, or the first fault met in it; worth_of tells the worth of a called cell."""
+    if step.word == "call":
+        number, called = step.thing
+        return worth_of(called)
+    held = worth_ahead(step, word)
+    for at, part in enumerate(step.parts):
+        one = step_worth(part, word, worth_of)
+        if isinstance(one, str):
+            return one
+        held = one if at == 0 and step.word in FROM_THE_FIRST else put_together(step.word, word, held, one)
+        if isinstance(held, str):
+            return held
+    return held
+
+
+def worth_ahead(step, word):
+    """The worth that stands ahead of a step's parts, or that of a step without parts."""
     if step.word == "fault":
         return step.fault
     if step.word == "gain":
         return gain(word, step.thing)
-    if step.word == "none":
-        return nothing(word)
-    if step.word == "call":
-        number, called = step.thing
-        return known[called]
-    if step.word == "each":
-        return parts_worth(step, word, known, [nothing(word)])
-    if step.word == "all":
-        return parts_worth(step, word, known, [whole(word)])
-    return parts_worth(step, word, known, [])
-
-
-def parts_worth(step, word, known, ahead):
-    """The worth of a step's parts, put together one by one behind what is ahead of them, perhaps nothing."""
-    held = ahead
-    for part in step.parts:
-        one = step_worth(part, word, known)
-        if isinstance(one, str):
-            return one
-        together = one if held == [] else put_together(step.word, word, held[0], one)
-        if isinstance(together, str):
-            return together
-        held = [together]
-    return held[0]
+    return whole(word) if step.word == "all" else nothing(word)
 
 
 def put_together(kind, word, one, other):

@@ -86,6 +86,76 @@ def a_program(chance):
             continue
 
 
+# How a first number falls, by which it is told where to stop, and by which turns it may fall to.
+FALLING = {
+    "up": (
+        lambda own: ("below", ("own", 0), ("num", 2)),
+        lambda chance, own: chance.choice([("less", ("own", 0), ("num", chance.randrange(1, 3))), ("half", ("own", 0))]),
+        (("num", 0), ("less", ("own", 0), ("num", 1))),
+    ),
+    "down": (
+        lambda own: ("below", ("num", 6), ("own", 0)),
+        lambda chance, own: ("plus", ("own", 0), ("num", chance.randrange(1, 3))),
+        (("plus", ("own", 0), ("num", 1)), ("num", 8)),
+    ),
+    "bits": (
+        lambda own: ("same", ("own", 0), ("num", 0)),
+        lambda chance, own: ("half", ("without", ("own", 0), ("num", chance.randrange(3)))),
+        (("num", 0), ("half", ("own", 0))),
+    ),
+}
+
+
+def a_falling_arg(chance, way, own, places):
+    """A first number for a call; own numbers from places on are turns, which fall too."""
+    if own > places and chance.random() < 0.6:
+        return ("own", chance.randrange(places, own))
+    return FALLING[way][1](chance, own)
+
+
+def a_falling_call(chance, way, counts, own, f):
+    g = chance.randrange(len(counts))
+    # A function with a lesser number may be called at the same place.
+    same = g < f and chance.random() < 0.4
+    first = ("own", 0) if same else a_falling_arg(chance, way, own, counts[f])
+    more = [chance.choice([("num", chance.randrange(3)), ("rest", ("own", chance.randrange(own)), ("num", 3))])
+            for _ in range(counts[g] - 1)]
+    return ("call", g, (first, *more))
+
+
+def a_falling_body(chance, way, counts, own, f, deep, turns):
+    if deep <= 2 or chance.random() < 0.2:
+        if chance.random() < 0.75:
+            return a_falling_call(chance, way, counts, own, f)
+        return ("none",) if chance.random() < 0.3 else ("gain", chance.choice([("num", chance.randrange(-3, 9)), ("own", 0)]))
+    inner = lambda more=0: a_falling_body(chance, way, counts, own + more, f, deep - 1, turns + more)
+    word = chance.choice(["both", "choose", "choose", "if", "each", "all"])
+    if word == "both":
+        return (word, inner(), inner())
+    if word == "choose":
+        return (word, tuple(inner() for _ in range(chance.randrange(1, 4))))
+    if word == "if":
+        return (word, ("same", ("rest", ("own", chance.randrange(own)), ("num", 2)), ("num", 0)), inner(), inner())
+    return inner() if turns > 1 else (word, *FALLING[way][2], inner(1))
+
+
+def a_falling_program(chance):
+    """A program whose calls mostly lead to lesser things, so that there are long orders."""
+    while True:
+        way = chance.choice(list(FALLING))
+        counts = [chance.choice([1, 1, 2, 3]) for _ in range(chance.randrange(1, 4))]
+        functions = []
+        for f, many in enumerate(counts):
+            leaf = ("gain", chance.choice([("num", chance.randrange(-3, 9)), ("own", many - 1)]))
+            inner = a_falling_body(chance, way, counts, many, f, chance.randrange(3, 6), 0)
+            mosts = (("num", 15 if way == "bits" else 8),) + (("num", 2),) * (many - 1)
+            functions.append((("fa", "fb", "fc")[f], mosts, ("if", FALLING[way][0](many), leaf, inner)))
+        try:
+            return program_of(NEEDS, tuple(functions))
+        except NoProgram:
+            continue
+
+
 def a_given(chance, program):
     return given_of(program, {
         "count": chance.choice([0, 1, 2, 3, 4, -1, -2, 10 ** 29]),

@@ -181,3 +181,73 @@ def cell_worth(program, given, cell, word, known):
             stack.append({"nothing": NOTHING, "whole": WHOLE}[row[0]][word])
     assert len(stack) == 1
     return stack[0]
+
+
+class Long(Exception):
+    pass
+
+
+def plain(program, given, ask, word):
+    """The plain worth, by a row of cells that are being read, each with its events, its place in them and its stack."""
+    made = {ask: Events(program, given, ask).rows}
+    frames, read = [[made[ask], 0, []]], 1
+    while True:
+        rows, place, stack = frames[-1]
+        if place == len(rows):
+            frames.pop()
+            if not frames:
+                return stack[0]
+            frames[-1][2].append(stack[0])
+            continue
+        frames[-1][1] += 1
+        row = rows[place]
+        if row[0] == "call":
+            if read == 3000 or len(frames) == 20:
+                raise Long
+            read += 1
+            if row[2] not in made:
+                made[row[2]] = Events(program, given, row[2]).rows
+            frames.append([made[row[2]], 0, []])
+        elif row[0] == "fault":
+            return row[1]
+        elif row[0] == "join":
+            other, one = stack.pop(), stack.pop()
+            stack.append(joined(row[1], word, one, other))
+            if figures(stack[-1]) > 400:
+                return "great"
+        elif row[0] == "gain":
+            stack.append({"ways": 1, "leasts": (row[1], 1), "greatests": (row[1], 1)}.get(word, row[1]))
+        else:
+            stack.append({"nothing": NOTHING, "whole": WHOLE}[row[0]][word])
+
+
+def hanging(program, given, ask):
+    """The wants of all wanted cells, by the cells."""
+    told, due = {}, {ask}
+    while due:
+        cell = due.pop()
+        told[cell] = {called for _, called in calls(program, given, cell)}
+        due |= told[cell] - set(told)
+    return told
+
+
+def has_ring(hangs):
+    """Whether what is left, when all without wants left are taken away again and again, is something."""
+    left = dict(hangs)
+    while True:
+        free = [cell for cell in left if not any(want in left for want in left[cell])]
+        if not free:
+            return bool(left)
+        for cell in free:
+            del left[cell]
+
+
+def number_by(key, args):
+    args = list(args) + [0] * 4
+    word, k = key
+    return {"up": args[k], "down": -args[k], "wide": args[k + 1] - args[k], "bits": bin(args[k]).count("1")}[word]
+
+
+def right(hangs, rule):
+    rank = lambda cell: [number_by(key, cell[1]) for key in rule] + [cell[0]]
+    return all(rank(cell) > rank(want) for cell in hangs for want in hangs[cell])
