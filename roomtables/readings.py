@@ -19,8 +19,8 @@ class Step:
     """What a body comes to in a reading.
 
     The word is the body's, or "fault" where the reading ends; an if is the part of it that is due. The thing is the
-    number of a gain, and of a call its number and its cell. The parts are the steps within, as far as they are read.
-    The fault is the one that ends the reading within, or None.
+    number of a gain, of a call its number and its cell, of an each and an all the first turn. The parts are the steps
+    within, as far as they are read. The fault is the one that ends the reading within, or None.
     """
 
     def __init__(self, word, thing, parts, fault):
@@ -116,7 +116,7 @@ def read(body, own, given, mosts):
         return read(body[2] if truth else body[3], own, given, mosts)
     if word == "each" or word == "all":
         return read_turns(body, own, given, mosts)
-    return read_all(word, [(part, own) for part in parts_in(body)], given, mosts)
+    return read_all(word, None, [(part, own) for part in parts_in(body)], given, mosts)
 
 
 def ended(fault):
@@ -145,17 +145,17 @@ def read_turns(body, own, given, mosts):
     first, last = numbers
     if last - first >= MOST_TURNS:
         return ended("wide")
-    return read_all(word, [(inner, own + [turn]) for turn in range(first, last + 1)], given, mosts)
+    return read_all(word, first, [(inner, own + [turn]) for turn in range(first, last + 1)], given, mosts)
 
 
-def read_all(word, due, given, mosts):
+def read_all(word, thing, due, given, mosts):
     """The step of bodies that are read one by one, each with its own numbers, until the reading ends."""
     steps = []
     for body, own in due:
         steps.append(read(body, own, given, mosts))
         if steps[-1].fault is not None:
-            return Step(word, None, steps, steps[-1].fault)
-    return Step(word, None, steps, None)
+            return Step(word, thing, steps, steps[-1].fault)
+    return Step(word, thing, steps, None)
 
 
 def calls_in(step):

@@ -156,6 +156,49 @@ def a_falling_program(chance):
             continue
 
 
+def a_line(chance, own, deep):
+    """Mostly a line."""
+    if deep <= 1 or chance.random() < 0.3:
+        return chance.choice([("num", chance.randrange(-3, 6)), ("own", chance.randrange(own)), ("own", own - 1)])
+    part = lambda: a_line(chance, own, deep - 1)
+    if chance.random() < 0.08:
+        return chance.choice([("half", part()), ("times", part(), part()), ("without", part(), part()), ("size", "line")])
+    if chance.random() < 0.25:
+        sides = [("num", chance.randrange(-2, 4)), part()]
+        chance.shuffle(sides)
+        return ("times", *sides)
+    return (chance.choice(["plus", "less", "less"]), part(), part())
+
+
+def a_lined_arg(chance, own, k):
+    """Mostly the own number k, if it is there, and a line of turns."""
+    if k >= own or chance.random() < 0.2:
+        return a_line(chance, own, 3)
+    if chance.random() < 0.3:
+        return ("without", ("own", k), a_line(chance, own, 1))
+    return ("plus", ("own", k), chance.choice([("num", chance.randrange(-3, 4)), ("times", ("num", chance.randrange(-2, 3)), ("own", own - 1))]))
+
+
+def a_lined_program(chance):
+    """A program whose calls have lines for args, within turns whose ends are lines."""
+    while True:
+        counts = [chance.choice([1, 2, 2, 3]) for _ in range(chance.randrange(1, 4))]
+        functions = []
+        for f, many in enumerate(counts):
+            turns = chance.choice([0, 1, 1, 2, 2])
+            g = chance.randrange(len(counts))
+            body = ("call", g, tuple(a_lined_arg(chance, many + turns, k) for k in range(counts[g])))
+            for turn in reversed(range(turns)):
+                ends = [a_line(chance, many + turn, 2) for _ in range(2)]
+                body = (chance.choice(["each", "all"]), *ends, ("both", ("call", 0, tuple(
+                    a_lined_arg(chance, many + turn + 1, k) for k in range(counts[0]))), body) if chance.random() < 0.3 else body)
+            functions.append((("fa", "fb", "fc")[f], (("num", 6),) * many, body))
+        try:
+            return program_of(NEEDS, tuple(functions))
+        except NoProgram:
+            continue
+
+
 def a_given(chance, program):
     return given_of(program, {
         "count": chance.choice([0, 1, 2, 3, 4, -1, -2, 10 ** 29]),

@@ -251,3 +251,169 @@ def number_by(key, args):
 def right(hangs, rule):
     rank = lambda cell: [number_by(key, cell[1]) for key in rule] + [cell[0]]
     return all(rank(cell) > rank(want) for cell in hangs for want in hangs[cell])
+
+
+def standing(body, turns=()):
+    """The calls that stand in a body, each with the turns around it."""
+    if body[0] == "call":
+        yield body, turns
+    elif body[0] == "choose":
+        for one in body[1]:
+            yield from standing(one, turns)
+    elif body[0] in ("each", "all"):
+        yield from standing(body[3], turns + (body[1:3],))
+    elif body[0] in ("both", "if"):
+        for one in body[-2:]:
+            yield from standing(one, turns)
+
+
+def calls_of(program):
+    return [(f, n, one[1]) for f, (_, _, body) in enumerate(program[1]) for n, (one, _) in enumerate(standing(body))]
+
+
+def all_words(one):
+    return {one[0]}.union(*[all_words(part) for part in one[1:] if isinstance(part, tuple)])
+
+
+def is_line(one):
+    if not all_words(one) <= {"num", "own", "plus", "less", "times"}:
+        return False
+    if one[0] == "times" and all("own" in all_words(part) for part in one[1:]):
+        return False
+    return all(is_line(part) for part in one[1:] if isinstance(part, tuple))
+
+
+def value(one, own):
+    if one[0] in ("num", "own"):
+        return one[1] if one[0] == "num" else own[one[1]]
+    left, right = value(one[1], own), value(one[2], own)
+    return {"plus": left + right, "less": left - right, "times": left * right}[one[0]]
+
+
+def greatest(told, many, places, turns):
+    """The greatest of a line, which is a function of the own numbers, put in one by one from the last turn on."""
+    zeros = [0] * many
+    factor = lambda told, k: told(zeros[:k] + [1] + zeros[k + 1:]) - told(zeros)
+    for place, (low, high) in reversed(list(enumerate(turns, places))):
+        if factor(told, place) != 0:
+            end = high if factor(told, place) > 0 else low
+            if not is_line(end):
+                return None
+            told = lambda own, told=told, end=end, k=place: told(own[:k] + [value(end, own)] + own[k + 1:])
+    return told(zeros) if not any(factor(told, k) for k in range(many)) else None
+
+
+def gap(program, f, n, key):
+    call, turns = list(standing(program[1][f][2]))[n]
+    places, args, (word, k) = len(program[1][f][1]), call[2], key
+    if word == "bits":
+        if k >= len(args):
+            return 0
+        one = args[k]
+        while one[0] == "without":
+            one = one[1]
+        return 0 if one == ("own", k) and k < places else None
+    if not all(is_line(one) for one in (args[k:k + 2] if word == "wide" else args[k:k + 1])):
+        return None
+    o = lambda own, k: own[k] if k < places else 0
+    s = lambda own, k: value(args[k], own) if k < len(args) else 0
+    told = {
+        "up": lambda own: s(own, k) - o(own, k), "down": lambda own: o(own, k) - s(own, k),
+        "wide": lambda own: (s(own, k + 1) - s(own, k)) - (o(own, k + 1) - o(own, k)),
+    }[word]
+    return greatest(told, places + len(turns), places, turns)
+
+
+def all_picks(program, given, cell):
+    """All right picks of a cell without a fault in its reading, with what each leads to."""
+    told = {}
+    for picks, called, gains in ways_through(program[1][cell[0]][2], given, list(cell[1])):
+        told[tuple(picks)] = (called, gains)
+    return told
+
+
+def ways_through(body, given, own):
+    """Each way through a body: its picks, the called cells and the gains."""
+    word = body[0]
+    if word == "gain":
+        return [([], [], [number_of(body[1], given, own)])]
+    if word == "none":
+        return []
+    if word == "call":
+        return [([], [(body[1], tuple(number_of(arg, given, own) for arg in body[2]))], [])]
+    if word == "if":
+        return ways_through(body[2] if truth_of(body[1], given, own) else body[3], given, own)
+    if word == "choose":
+        return [([n] + way[0], way[1], way[2]) for n, one in enumerate(body[1]) for way in ways_through(one, given, own)]
+    if word == "both":
+        return one_behind_another([ways_through(part, given, own) for part in body[1:]])
+    turns = range(number_of(body[1], given, own), number_of(body[2], given, own) + 1)
+    inner = [ways_through(body[3], given, own + [turn]) for turn in turns]
+    if word == "all":
+        return one_behind_another(inner)
+    return [([turn] + way[0], way[1], way[2]) for turn, ways in zip(turns, inner) for way in ways]
+
+
+def one_behind_another(parts):
+    told = [([], [], [])]
+    for ways in parts:
+        told = [tuple(a + b for a, b in zip(one, other)) for one in told for other in ways]
+    return told
+
+
+def ranked(hangs, rule):
+    return sorted(hangs, key=lambda cell: ([number_by(key, cell[1]) for key in rule] + [cell[0]], cell[1]))
+
+
+def wanted_from(hangs, row, cell, ask, place):
+    """Whether a cell is the ask, or a want of a cell of the row from a place on."""
+    return cell == ask or any(cell in hangs[later] for later in row[place:])
+
+
+def tight_rooms(hangs, row, ask):
+    held, told = {}, []
+    for place, cell in enumerate(row):
+        free = [room for room in range(len(row)) if room not in held or not wanted_from(hangs, row, held[room], ask, place + 1)]
+        told.append(free[0])
+        held[free[0]] = cell
+    return told
+
+
+def layered_rooms(hangs, row, ask, rule):
+    layer_of = lambda cell: ([number_by(key, cell[1]) for key in rule] + [cell[0]])[0]
+    held, told = {}, []
+    for place, cell in enumerate(row):
+        if place == 0 or layer_of(cell) != layer_of(row[place - 1]):
+            held = {room: one for room, one in held.items() if wanted_from(hangs, row, one, ask, place)}
+        room = min(set(range(len(row))) - set(held))
+        told.append(room)
+        held[room] = cell
+    return told
+
+
+def least_rooms(hangs, row, ask):
+    """The most cells that must stand side by side behind a row."""
+    return max(sum(wanted_from(hangs, row, cell, ask, place + 1) for cell in row[:place + 1]) for place in range(len(row)))
+
+
+def is_worth(thing):
+    if thing is None or isinstance(thing, str):
+        return True
+    if isinstance(thing, tuple):
+        return len(thing) == 2 and all(type(one) is int for one in thing)
+    return type(thing) is int
+
+
+def lets_by(program, given, ask, word, paper):
+    """Whether a list of tuples of a cell, a room and a thing is let by."""
+    held = []
+    for cell, room, told in paper:
+        if not 0 <= room <= 999 or not is_worth(told):
+            return False
+        known = {one: worth for _, one, worth in held}
+        if not {called for _, called in calls(program, given, cell)} <= set(known):
+            return False
+        if told != cell_worth(program, given, cell, word, known):
+            return False
+        held = [row for row in held if row[0] != room] + [(room, cell, told)]
+    return ask in [cell for _, cell, _ in held]

@@ -4,9 +4,11 @@ import copy
 import unittest
 
 from odd_things import ODD, nested
+from roomtables.checker import lets_by
 from roomtables.errors import NoCell
 from roomtables.givens import given_of
 from roomtables.orders import order_or_ring, wanted
+from roomtables.papers import fewest, paper_of
 from roomtables.plain import plain
 from roomtables.programs import program_of
 from roomtables.rules import is_right, right_rules, rules
@@ -37,6 +39,9 @@ ASKS = {
     "table": lambda program, given, ask: table(program, given, ask, "leasts"),
     "is_right": lambda program, given, ask: is_right(program, given, ask, (("up", 0),)),
     "right_rules": right_rules,
+    "lets_by": lambda program, given, ask: lets_by(program, given, ask, "least", [(ask, 0, 4)]),
+    "paper_of": lambda program, given, ask: paper_of(program, given, ask, "ways", (("up", 0),), "tight"),
+    "fewest": fewest,
 }
 
 
