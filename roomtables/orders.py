@@ -1,7 +1,7 @@
 """What an ask hangs on: all the wanted cells, and an order of them or a ring."""
 
 from roomtables.cells import check_cell
-from roomtables.errors import Ring, TooGreat
+from roomtables.errors import NoRoad, Ring, TooGreat
 from roomtables.readings import Readings, wants_in
 
 MOST_WANTED = 200
@@ -46,6 +46,15 @@ def steps_in_order(program, given, ask):
     if len(order) < len(hangs):
         raise Ring(ring_beside(hangs, order))
     return {cell: steps[cell] for cell in order}
+
+
+def sound_steps(program, given, ask):
+    """The readings of all wanted cells, by their cells, in an order; NoRoad is refused too, where one has a fault."""
+    steps = steps_in_order(program, given, ask)
+    for cell in steps:
+        if steps[cell].fault is not None:
+            raise NoRoad("a wanted cell has a fault in its reading")
+    return steps
 
 
 def wants_by(steps):

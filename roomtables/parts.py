@@ -36,6 +36,13 @@ def parts_in(part):
     return part[PARTS_FROM.get(part[0], 1):]
 
 
+def with_parts(part, inner):
+    """A part with these in the place of the parts that stand directly in it."""
+    if part[0] == "call" or part[0] == "choose":
+        return part[:-1] + (tuple(inner),)
+    return part[:PARTS_FROM.get(part[0], 1)] + tuple(inner)
+
+
 def parts_many(part):
     """How many parts a part has, itself counted."""
     many = 1

@@ -14,10 +14,9 @@ class Trail:
 
     def leads(self, step):
         """Goes through a step; whether the picks are right so far."""
-        if step.word == "choose":
-            return self.leads_on(step, 0)
-        if step.word == "each":
-            return self.leads_on(step, step.thing)
+        first = first_pick(step)
+        if first is not None:
+            return self.leads_on(step, first)
         if step.word == "gain":
             self.gains.append(step.thing)
         if step.word == "call":
@@ -34,6 +33,13 @@ class Trail:
         if not is_whole(pick) or not first <= pick < first + len(step.parts):
             return False
         return self.leads(step.parts[pick - first])
+
+
+def first_pick(step):
+    """The pick that leads to the first part of a step, None of a step at which no pick is due."""
+    if step.word == "choose":
+        return 0
+    return step.thing if step.word == "each" else None
 
 
 def led(program, given, cell, picks):

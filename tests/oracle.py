@@ -4,6 +4,8 @@ A reading is written out as a flat row of events, and a worth is reckoned of the
 reckoned by Python's own signs, and a fault is thrown.
 """
 
+import itertools
+
 
 class Fault(Exception):
     pass
@@ -417,3 +419,129 @@ def lets_by(program, given, ask, word, paper):
             return False
         held = [row for row in held if row[0] != room] + [(room, cell, told)]
     return ask in [cell for _, cell, _ in held]
+
+
+def in_order(hangs):
+    """The cells of what has no ring, wants first."""
+    row = []
+    while len(row) < len(hangs):
+        row += [cell for cell in sorted(hangs) if cell not in row and hangs[cell] <= set(row)]
+    return row
+
+
+def all_worths(program, given, hangs, word):
+    known = {}
+    for cell in in_order(hangs):
+        known[cell] = cell_worth(program, given, cell, word, known)
+    return known
+
+
+def best_picks(program, given, cell, answers):
+    """The least of all right picks of a cell that come to its answer, by going through them one by one."""
+    right = []
+    for picks, (called, gains) in all_picks(program, given, cell).items():
+        parts = [answers[one] for one in called]
+        if None not in parts and sum(parts) + sum(gains) == answers[cell]:
+            right.append(picks)
+    return min(right)
+
+
+def road(program, given, ask, hangs, word):
+    """The road where the answer is a number."""
+    answers = all_worths(program, given, hangs, word)
+    rows = [ask]
+    for cell in rows:
+        picks = best_picks(program, given, cell, answers)
+        for called in all_picks(program, given, cell)[picks][0]:
+            if called not in rows:
+                rows.append(called)
+    return [(cell, best_picks(program, given, cell, answers)) for cell in rows]
+
+
+def all_walks(program, given, hangs):
+    """All walks of all wanted cells, where there are no faults and not too many of them."""
+    told = {}
+    for cell in in_order(hangs):
+        told[cell] = []
+        for picks, (called, gains) in all_picks(program, given, cell).items():
+            for inner in itertools.product(*[told[one] for one in called]):
+                told[cell].append((cell, picks, inner))
+    return told
+
+
+def rows_of(walk):
+    """All rows of a walk, as cells and picks."""
+    return [walk[:2]] + [row for one in walk[2] for row in rows_of(one)]
+
+
+def gains_of(program, given, walk):
+    return [gain for cell, picks in rows_of(walk) for gain in all_picks(program, given, cell)[picks][1]]
+
+
+def rewritten(thing, change):
+    """A tuple with each tuple within it rewritten, the inner ones first."""
+    return change(tuple(rewritten(one, change) for one in thing)) if isinstance(thing, tuple) else thing
+
+
+def shuffled(things, order):
+    return tuple(things[order.index(place)] for place in range(len(order)))
+
+
+def exchanged(program, f, order):
+    def change(part):
+        if part[:1] == ("call",) and part[1] == f:
+            return ("call", f, shuffled(part[2], order))
+        return part
+
+    def change_own(part):
+        return ("own", (order + tuple(range(len(order), 26)))[part[1]]) if part[:1] == ("own",) else part
+
+    functions = [(name, mosts, rewritten(body, change)) for name, mosts, body in program[1]]
+    name, mosts, body = functions[f]
+    functions[f] = (name, shuffled(mosts, order), rewritten(body, change_own))
+    return (program[0], tuple(functions))
+
+
+def moved(program, order):
+    change = lambda part: ("call", order[part[1]], part[2]) if part[:1] == ("call",) else part
+    return (program[0], shuffled(rewritten(program[1], change), order))
+
+
+def placed(program, f, n):
+    """As it is written, be it a program or not: the call is marked first, and then rewritten."""
+    name, mosts, body = program[1][f]
+    marked = marked_call(labelled(body, []), n, len(mosts))
+    return (program[0], program[1][:f] + ((name, mosts, rewritten(marked, lambda part: filled(program, part))),) + program[1][f + 1:])
+
+
+def marked_call(body, n, own):
+    """The labelled body with the n-th call marked, with how many own numbers there are, and the labels taken away."""
+    if body[0] == "call":
+        return ("marked", ("call", *body[1:3]), own) if body[3] == n else ("call", *body[1:3])
+    if body[0] == "choose":
+        return ("choose", tuple(marked_call(part, n, own) for part in body[1]))
+    more = 1 if body[0] in ("each", "all") else 0
+    return tuple(marked_call(part, n, own + more) if isinstance(part, list) else part for part in body)
+
+
+def filled(program, part):
+    if part[:1] != ("marked",):
+        return part
+    (_, g, args), own = part[1:]
+    _, mosts, body = program[1][g]
+    numbers = args + tuple(("own", own + k) for k in range(26))
+    conds = [("not", ("or", ("below", s, ("num", 0)), ("below", m, s))) for s, m in zip(args, mosts)]
+    while len(conds) > 1:
+        conds[-2:] = [("and", *conds[-2:])]
+    return ("if", conds[0], rewritten(body, lambda one: numbers[one[1]] if one[:1] == ("own",) else one), part[1])
+
+
+def size_of(body):
+    """How many parts a body has, how deep it is, and how many turns stand within one another in it."""
+    if body[0] == "choose" or body[0] == "call":
+        inner = body[-1]
+    else:
+        inner = [part for part in body[1:] if isinstance(part, tuple)]
+    sizes = [size_of(part) for part in inner] + [(0, 0, 0)]
+    turn = 1 if body[0] in ("each", "all") else 0
+    return (1 + sum(one[0] for one in sizes), 1 + max(one[1] for one in sizes), turn + max(one[2] for one in sizes))

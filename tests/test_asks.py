@@ -5,14 +5,16 @@ import unittest
 
 from odd_things import ODD, nested
 from roomtables.checker import lets_by
-from roomtables.errors import NoCell
+from roomtables.errors import NoCell, NoRoad
 from roomtables.givens import given_of
 from roomtables.orders import order_or_ring, wanted
 from roomtables.papers import fewest, paper_of
 from roomtables.plain import plain
 from roomtables.programs import program_of
+from roomtables.roads import is_road, road
 from roomtables.rules import is_right, right_rules, rules
 from roomtables.tables import answer, table
+from roomtables.walks import walks
 from roomtables.words import WORDS
 from writing import A, B, at, call, gain, less, num, same, when
 
@@ -31,6 +33,15 @@ NO_CELLS = [
     nested(50, at(0, 1)), (0, (nested(50, 1),)), (0, tuple(range(60))),
 ] + ODD
 
+
+def roadless(program, given, ask):
+    """The refusal by a word that has no roads, as a text."""
+    try:
+        return road(program, given, ask, "ways")
+    except NoRoad as refusal:
+        return str(refusal)
+
+
 ASKS = {
     "plain": lambda program, given, ask: plain(program, given, ask, "least"),
     "wanted": wanted,
@@ -42,6 +53,10 @@ ASKS = {
     "lets_by": lambda program, given, ask: lets_by(program, given, ask, "least", [(ask, 0, 4)]),
     "paper_of": lambda program, given, ask: paper_of(program, given, ask, "ways", (("up", 0),), "tight"),
     "fewest": fewest,
+    "road": lambda program, given, ask: road(program, given, ask, "least"),
+    "road by another word": roadless,
+    "is_road": lambda program, given, ask: is_road(program, given, ask, [(ask, ())]),
+    "walks": walks,
 }
 
 
