@@ -5,6 +5,7 @@ reckoned by Python's own signs, and a fault is thrown.
 """
 
 import itertools
+import re
 
 
 class Fault(Exception):
@@ -545,3 +546,78 @@ def size_of(body):
     sizes = [size_of(part) for part in inner] + [(0, 0, 0)]
     turn = 1 if body[0] in ("each", "all") else 0
     return (1 + sum(one[0] for one in sizes), 1 + max(one[1] for one in sizes), turn + max(one[2] for one in sizes))
+
+
+SHAPES = {
+    "size": "x", "at": "xs", "kids": "xs", "kid": "xss", "full": "s", "with": "ss", "without": "ss", "many": "s", "plus": "ss", "less": "ss",
+    "times": "ss", "half": "s", "rest": "ss", "lesser": "ss", "greater": "ss",
+    "below": "ss", "same": "ss", "has": "ss", "not": "c", "and": "cc", "or": "cc",
+    "gain": "s", "none": "", "both": "bb", "each": "ssb", "all": "ssb", "if": "cbb",
+}
+KINDS_OF_SHAPES = {"s": list(SHAPES)[:15], "c": list(SHAPES)[15:21], "b": list(SHAPES)[21:]}
+BARRED = set(SHAPES) | {"num", "own", "need", "call", "choose", "number", "row", "text", "tree"}
+
+
+def is_name(text):
+    return re.fullmatch("[a-z]{2,8}", text) is not None and text not in BARRED
+
+
+def fits(node, shape, names):
+    """Whether a node, a text or a list of nodes, is a part of this shape."""
+    if shape == "x":
+        return isinstance(node, str) and is_name(node)
+    if isinstance(node, str):
+        return shape == "s" and (is_name(node) or re.fullmatch("[a-z]|0|-?[1-9][0-9]{0,29}", node) is not None)
+    if not node or not isinstance(node[0], str):
+        return False
+    if node[0] == "call":
+        return shape == "b" and len(node) > 1 and node[1] in names and all(fits(one, "s", names) for one in node[2:])
+    if node[0] == "choose":
+        return shape == "b" and all(fits(one, "b", names) for one in node[1:])
+    if node[0] not in KINDS_OF_SHAPES[shape] or len(node) - 1 != len(SHAPES[node[0]]):
+        return False
+    return all(fits(one, inner, names) for one, inner in zip(node[1:], SHAPES[node[0]]))
+
+
+def nodes_of(line):
+    """The line as nested lists, None where the brackets don't fit; and how deep they are."""
+    stack, deepest = [[]], 0
+    for token in re.findall(r"[()]|[^() ]+", line):
+        if token == "(":
+            stack.append([])
+            deepest = max(deepest, len(stack) - 1)
+        elif token == ")":
+            if len(stack) == 1:
+                return None, 0
+            stack[-2].append(stack.pop())
+        else:
+            stack[-1].append(token)
+    return (stack[0] if len(stack) == 1 else None), deepest
+
+
+def rendered(node):
+    return node if isinstance(node, str) else "(" + " ".join(rendered(one) for one in node) + ")"
+
+
+def is_fun_line(line, names):
+    nodes, deepest = nodes_of(line)
+    if nodes is None or deepest > 40 or " ".join(rendered(node) for node in nodes) != line or len(nodes) != 4:
+        return False
+    _, name, mosts, body = nodes
+    return isinstance(name, str) and is_name(name) and isinstance(mosts, list) and all(fits(one, "s", names) for one in mosts) \
+        and fits(body, "b", names)
+
+
+def first_bad_line(text):
+    """The number of the first line that isn't of the form, None where all are."""
+    lines = text.split("\n")
+    names = [line.split(" ")[1] for line in lines if line[:4] == "fun "]
+    funs = False
+    for number, line in enumerate(lines):
+        kind, _, name = line.partition(" ")
+        funs = funs or line[:4] == "fun "
+        if funs and not (line[:4] == "fun " and is_fun_line(line, names)):
+            return number
+        if not funs and not (kind in ("number", "row", "text", "tree") and is_name(name)):
+            return number
+    return None

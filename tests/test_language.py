@@ -157,6 +157,23 @@ class Language(unittest.TestCase):
                 if isinstance(node, ast.Call) and isinstance(node.func, ast.Attribute):
                     self.assertIn(node.func.attr, METHODS | own, (name, node.lineno))
 
+    def test_no_name_is_a_method_and_an_attribute(self):
+        methods, attributes = set(), set()
+        for name, text, tree in self.files:
+            for node in ast.walk(tree):
+                if isinstance(node, ast.ClassDef):
+                    methods |= {one.name for one in node.body if isinstance(one, ast.FunctionDef)}
+                if isinstance(node, ast.Attribute) and isinstance(node.ctx, ast.Store):
+                    attributes.add(node.attr)
+        self.assertFalse(methods & attributes)
+
+    def test_tables_hold_no_tables(self):
+        for name, text, tree in self.files:
+            for node in tree.body:
+                if isinstance(node, ast.Assign):
+                    tables = [one for one in ast.walk(node.value) if isinstance(one, (ast.List, ast.Dict))]
+                    self.assertLessEqual(len(tables), 1, (name, node.lineno))
+
     def test_statements_and_signs(self):
         for name, text, tree in self.files:
             for node in ast.walk(tree):

@@ -107,6 +107,16 @@ class ByHand(unittest.TestCase):
         one = program(((num(5),), call(1, A, 1, 2)), ((num(5), num(5), num(5)), each(1, A, each(D, B, gain(plus(D, E))))))
         self.assertEqual(self.body(placed(one, 0, 0), 0)[2], each(1, A, each(B, 1, gain(plus(B, C)))))
 
+    def test_in_an_all_and_beside_other_bodies(self):
+        inner = each(A, 3, gain(plus(A, B)))
+        for around, own in (
+            (lambda body: every(1, 2, body), C), (lambda body: each(1, 2, body), C), (lambda body: every(1, 2, both(gain(B), body)), C),
+            (lambda body: choose(NONE, body), B), (lambda body: when(same(A, 1), NONE, body), B), (lambda body: both(gain(1), both(body, NONE)), B),
+        ):
+            one = program(((num(9),), around(call(1, half(A)))), ((num(5),), inner))
+            put = when(there(half(A), num(5)), each(half(A), 3, gain(plus(half(A), own))), call(1, half(A)))
+            self.assertEqual(self.body(placed(one, 0, 0), 0), around(put))
+
     def test_a_call_within_two_turns(self):
         one = program(((num(9),), each(1, 2, every(B, 3, call(1, plus(B, C))))), ((num(5),), gain(A)))
         arg = plus(B, C)
